@@ -1,0 +1,1 @@
+"""Heapsmeet: points parted so that hulls meet, in whole numbers throughout."""

@@ -1,0 +1,244 @@
+"""What the tests share: the document's own sums by fractions, and things of all kinds.
+
+Nothing here uses the program. The sums are worked out from the words of the
+document, so that a test never takes a checker's word for what a maker told.
+"""
+
+import copy
+import random
+from fractions import Fraction
+from math import gcd, lcm
+
+HUGE = 10 ** 299 + 7
+
+
+def alike(one, other):
+    """Whether two things are the same in kinds and values, so that 1 isn't True."""
+    if type(one) is not type(other):
+        return False
+    if isinstance(one, (list, tuple)):
+        return len(one) == len(other) and all(alike(a, b) for a, b in zip(one, other))
+    if isinstance(one, dict):
+        return alike(list(one.items()), list(other.items()))
+    return one == other
+
+
+def ask(function, *args, **named):
+    """The answer; fails if what is handed in is changed, or asked again it is another one."""
+    kept = copy.deepcopy((list(args), named))
+    first = function(*args, **named)
+    if not alike((list(args), named), kept):
+        raise AssertionError(f"{function.__name__} wrote into what it was handed")
+    second = function(*args, **named)
+    if not alike(first, second):
+        raise AssertionError(f"{function.__name__} answers otherwise when asked again")
+    fresh = copy.deepcopy(kept)
+    if not alike(function(*fresh[0], **fresh[1]), first):
+        raise AssertionError(f"{function.__name__} answers otherwise of the same handed in anew")
+    return first
+
+
+def is_whole(thing):
+    return type(thing) is int
+
+
+def is_row(thing, many=None):
+    return type(thing) is tuple and (many is None or len(thing) == many)
+
+
+def is_row_of_wholes(thing, many=None):
+    return is_row(thing, many) and all(is_whole(part) for part in thing)
+
+
+def lowest(numbers, bottom):
+    """The row of numbers and bottom in lowest terms, the bottom above 0."""
+    row = [*numbers, bottom]
+    common = gcd(*row)
+    if bottom < 0:
+        common = -common
+    return tuple(number // common for number in row)
+
+
+def told(places):
+    """Places, which are fractions, told like a spot."""
+    bottom = lcm(*[place.denominator for place in places])
+    return lowest([int(place * bottom) for place in places], bottom)
+
+
+def places_of(spot):
+    return [Fraction(number, spot[-1]) for number in spot[:-1]]
+
+
+def spot_ok(thing):
+    if not is_row_of_wholes(thing) or len(thing) not in (2, 3, 4):
+        return False
+    return thing[-1] >= 1 and not any(
+        all(number % part == 0 for number in thing) for part in range(2, thing[-1] + 1)
+    )
+
+
+def shares_ok(many, thing):
+    if not is_row(thing) or len(thing) < 1:
+        return False
+    if not all(is_row_of_wholes(part, 2) for part in thing):
+        return False
+    names = [k for k, s in thing]
+    return (
+        names == sorted(set(names))
+        and all(k in range(many) for k in names)
+        and all(s >= 1 for k, s in thing)
+    )
+
+
+def mix_places(all_places, shares):
+    together = sum(s for k, s in shares)
+    directions = range(len(all_places[shares[0][0]]))
+    return [
+        sum((Fraction(s) * all_places[k][at] for k, s in shares), Fraction(0)) / together
+        for at in directions
+    ]
+
+
+def tie_ok(points, thing):
+    if not is_row_of_wholes(thing, len(points)):
+        return False
+    if all(number == 0 for number in thing) or sum(thing) != 0:
+        return False
+    sums = [
+        sum(number * place for number, place in zip(thing, column))
+        for column in zip(*[places_of(point) for point in points])
+    ]
+    return all(total == 0 for total in sums)
+
+
+def has_tie(points):
+    """Whether points have a tie: whether their rows of places and 1 aren't free of each other."""
+    rows = [[*places_of(point), Fraction(1)] for point in points]
+    return rank(rows) < len(points)
+
+
+def rank(rows):
+    rows = [list(row) for row in rows]
+    found = 0
+    for column in range(len(rows[0]) if rows else 0):
+        heads = [at for at in range(found, len(rows)) if rows[at][column] != 0]
+        if not heads:
+            continue
+        rows[found], rows[heads[0]] = rows[heads[0]], rows[found]
+        for at in range(found + 1, len(rows)):
+            factor = rows[at][column] / rows[found][column]
+            rows[at] = [a - factor * b for a, b in zip(rows[at], rows[found])]
+        found += 1
+    return found
+
+
+def near_ok(arrows, thing):
+    if not shares_ok(len(arrows), thing):
+        return False
+    mix = mix_places(arrows, thing)
+    square = sum(place * place for place in mix)
+    return all(sum(place * n for place, n in zip(mix, arrow)) >= square for arrow in arrows)
+
+
+def within_ok(points, spot, thing):
+    if not shares_ok(len(points), thing) or len(thing) > len(spot):
+        return False
+    return mix_places([places_of(point) for point in points], thing) == places_of(spot)
+
+
+def sum_at(row, spot):
+    return sum((number * place for number, place in zip(row, places_of(spot))), Fraction(0))
+
+
+def without_ok(points, spot, thing):
+    if not is_row(thing, 2):
+        return False
+    row, t = thing
+    if not is_row_of_wholes(row, len(spot) - 1) or not is_whole(t):
+        return False
+    if all(number == 0 for number in row):
+        return False
+    return all(sum_at(row, point) <= t for point in points) and sum_at(row, spot) > t
+
+
+def nested(kind, depth):
+    """A thing with so many things within one another."""
+    thing = 1
+    for level in range(depth):
+        thing = {0: thing} if kind is dict else kind([thing])
+    return thing
+
+
+def odd_things():
+    """Things of all kinds, none of which is a paper, shares, a spot or points (but [])."""
+    deep = [nested(kind, depth) for kind in (tuple, list, dict) for depth in (1, 2, 3, 29, 30)]
+    return deep + [
+        None, True, False, 0, 1, -1, 2, HUGE, -HUGE,
+        "", "0", "a", "within", "(0, 1)", "0 1\n", "~" * 5100, "((0, 1),)",
+        (), ((),), ((), ()), [()], [[]], [[], []], ([],), ({},), {},
+        {0: 1}, {"a": None}, {(0, 1): (1, 1)}, {0: (0, 1)}, {0: {0: {0: 0}}},
+        (None,), (None, None), (True,), (True, True), (False, 1), ((True, True),),
+        ("0", "1"), (("0", "1"),), ("ab",), ("ab", "cd"), ["ab"],
+        [0, 1], [[0, 1]], [(0, True)], ([0, 1],), ((0,), (1,)), (((0, 1),),), ((0, 1), None),
+        ((0, None),), ((None, 1),), (((0,), 1),), ((0, (1,)),), ((0, [1]),), (({}, 1),),
+        (None,) * 1199, [None] * 1199, ({},) * 40, tuple([0, [1]] for k in range(300)),
+    ]
+
+
+def wrong_for(part):
+    """Things of another kind than the part, a number or a row."""
+    if is_whole(part):
+        return [True, False, None, str(part), "", (part,), [part], {part: part}, ()]
+    listed = [list(part), None, True, False, 0, 1, "", str(part)[:80], {}, {0: part}, [part], (part,)]
+    return listed + [dict(enumerate(part))]
+
+
+def twisted(paper):
+    """All papers that differ from a paper by one part that is of another kind."""
+    for wrong in wrong_for(paper):
+        yield wrong
+    if isinstance(paper, tuple):
+        for at, part in enumerate(paper):
+            for wrong in twisted(part):
+                yield (*paper[:at], wrong, *paper[at + 1:])
+
+
+def changed(paper):
+    """Papers of the right kinds that differ a little: numbers, and rows' lengths and orders."""
+    if is_whole(paper):
+        for other in (paper - 1, paper + 1, -paper, 0, 2 * paper, HUGE, -HUGE):
+            yield other
+        return
+    yield paper[::-1]
+    yield paper[1:]
+    yield paper[:-1]
+    yield ()
+    for part in (0, 1, (), (0, 1), (1, 1), paper):
+        yield (*paper, part)
+    for at, part in enumerate(paper):
+        yield (*paper[:at], part, *paper[at:])
+        yield (*paper[:at], *paper[at + 1:])
+        for other in changed(part):
+            yield (*paper[:at], other, *paper[at + 1:])
+
+
+def dice(seed):
+    """The same throws each time."""
+    return random.Random(seed)
+
+
+def some_spot(throw, directions, reach=9, bottom=4):
+    return lowest([throw.randint(-reach, reach) for k in range(directions)], throw.randint(1, bottom))
+
+
+def some_points(throw, directions, many, reach=9, bottom=4):
+    return [some_spot(throw, directions, reach, bottom) for k in range(many)]
+
+
+def some_arrows(throw, size, many, reach=9):
+    return [tuple(throw.randint(-reach, reach) for k in range(size)) for j in range(many)]
+
+
+def some_shares(throw, many, most=9):
+    names = sorted(throw.sample(range(many), throw.randint(1, many)))
+    return tuple((k, throw.randint(1, most)) for k in names)
