@@ -1,8 +1,23 @@
-"""Arrows mixed by shares, and the checker of a nearest mix."""
+"""Arrows, made of lines in turns; arrows mixed by shares, and the checker of a nearest mix."""
 
 from heapsmeet.shares import is_shares
 from heapsmeet.spots import spot_at
 from heapsmeet.wholes import sum_of_products, weighed
+
+
+def in_turn(line, own, turns):
+    """The arrow of so many turns that has the line in its own turn and noughts in the others."""
+    return tuple(number if turn == own else 0 for turn in range(turns) for number in line)
+
+
+def in_each_turn(line, turns):
+    """The arrow of so many turns that has the line in each."""
+    return tuple(line) * turns
+
+
+def from_nought(line):
+    """The line, taken from 0."""
+    return tuple(-number for number in line)
 
 
 def mix_of(arrows, shares):

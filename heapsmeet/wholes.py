@@ -6,6 +6,11 @@ def is_number(thing):
     return isinstance(thing, int) and not isinstance(thing, bool)
 
 
+def is_row(many, thing):
+    """Whether something is a row of so many parts, whatever they are."""
+    return isinstance(thing, tuple) and len(thing) == many
+
+
 def is_numbers(thing):
     """Whether something is a row of numbers alone (of none, too)."""
     return isinstance(thing, tuple) and all(is_number(part) for part in thing)

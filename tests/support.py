@@ -72,9 +72,7 @@ def places_of(spot):
 def spot_ok(thing):
     if not is_row_of_wholes(thing) or len(thing) not in (2, 3, 4):
         return False
-    return thing[-1] >= 1 and not any(
-        all(number % part == 0 for number in thing) for part in range(2, thing[-1] + 1)
-    )
+    return thing[-1] >= 1 and gcd(*thing) == 1
 
 
 def shares_ok(many, thing):
@@ -161,6 +159,74 @@ def without_ok(points, spot, thing):
     return all(sum_at(row, point) <= t for point in points) and sum_at(row, spot) > t
 
 
+def shared_ok(points, groups, thing):
+    if not is_row(thing, 2):
+        return False
+    spot, rows = thing
+    if not spot_ok(spot) or len(spot) != len(points[0]) or not is_row(rows, len(groups)):
+        return False
+    all_places = [places_of(point) for point in points]
+    return all(
+        shares_ok(len(points), row)
+        and {k for k, s in row} <= set(group)
+        and mix_places(all_places, row) == places_of(spot)
+        for group, row in zip(groups, rows)
+    )
+
+
+def apart_ok(points, groups, thing):
+    directions = len(points[0]) - 1
+    if not is_row(thing, len(groups)):
+        return False
+    for pair in thing:
+        if not is_row(pair, 2) or not is_row_of_wholes(pair[0], directions) or not is_whole(pair[1]):
+            return False
+    if any(sum(column) != 0 for column in zip(*[row for row, t in thing])):
+        return False
+    if sum(t for row, t in thing) >= 0:
+        return False
+    return all(sum_at(row, points[k]) <= t for group, (row, t) in zip(groups, thing) for k in group)
+
+
+def heaps_ok(points, many, thing):
+    if not is_row(thing, 3) or not is_row(thing[0], many):
+        return False
+    for heap in thing[0]:
+        if not is_row_of_wholes(heap) or len(heap) == 0 or list(heap) != sorted(set(heap)):
+            return False
+    if any(sum(heap.count(k) for heap in thing[0]) != 1 for k in range(len(points))):
+        return False
+    if any(k not in range(len(points)) for heap in thing[0] for k in heap):
+        return False
+    return shared_ok(points, list(thing[0]), thing[1:])
+
+
+def square_of(places):
+    return sum((place * place for place in places), Fraction(0))
+
+
+def trail_ok(colours, thing):
+    if not is_row(thing) or len(thing) == 0:
+        return False
+    squares = []
+    for step in thing:
+        if not is_row(step, 2) or not is_row_of_wholes(step[0], len(colours)):
+            return False
+        if any(k not in range(len(colour)) for k, colour in zip(step[0], colours)):
+            return False
+        chosen = [colour[k] for k, colour in zip(step[0], colours)]
+        if not near_ok(chosen, step[1]):
+            return False
+        squares.append(square_of(mix_places(chosen, step[1])))
+    if any(k != 0 for k in thing[0][0]) or [at for at, n in enumerate(squares) if n == 0] != [len(thing) - 1]:
+        return False
+    for ahead, behind in zip(thing, thing[1:]):
+        other = [at for at, (k, j) in enumerate(zip(ahead[0], behind[0])) if k != j]
+        if len(other) != 1 or other[0] in [at for at, s in ahead[1]]:
+            return False
+    return all(behind < ahead for ahead, behind in zip(squares, squares[1:]))
+
+
 def nested(kind, depth):
     """A thing with so many things within one another."""
     thing = 1
@@ -237,6 +303,14 @@ def some_points(throw, directions, many, reach=9, bottom=4):
 
 def some_arrows(throw, size, many, reach=9):
     return [tuple(throw.randint(-reach, reach) for k in range(size)) for j in range(many)]
+
+
+def some_groups(throw, many, count, most=None):
+    """So many groups of some of many points."""
+    return [
+        tuple(sorted(throw.sample(range(many), throw.randint(1, min(many, most or many)))))
+        for group in range(count)
+    ]
 
 
 def some_shares(throw, many, most=9):
