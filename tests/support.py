@@ -5,6 +5,7 @@ document, so that a test never takes a checker's word for what a maker told.
 """
 
 import copy
+import itertools
 import random
 from fractions import Fraction
 from math import gcd, lcm
@@ -227,6 +228,51 @@ def trail_ok(colours, thing):
     return all(behind < ahead for ahead, behind in zip(squares, squares[1:]))
 
 
+def shown(points, spot, cut):
+    return sum(1 for point in points if sum_at(cut, point) >= sum_at(cut, spot))
+
+
+def cuts_round(points, spot):
+    """Cuts that show all there is to be shown, in line or plane: through each point, and a hair beside."""
+    if len(spot) == 2:
+        return [(1,), (-1,)]
+    cuts = [(1, 0), (0, -1)]
+    for point in points:
+        arrow = [a - b for a, b in zip(places_of(point), places_of(spot))]
+        whole = lcm(*[place.denominator for place in arrow])
+        x, y = [int(place * whole) for place in arrow]
+        far = 10 ** 700
+        if (x, y) != (0, 0):
+            for side in (1, -1):
+                cuts.append((-y * side, x * side))
+                for hair in (1, -1):
+                    cuts.append((-y * side * far + x * hair, x * side * far + y * hair))
+    return cuts
+
+
+def depth_of(points, spot):
+    """The least number that any cut shows, in line or plane."""
+    return min(shown(points, spot, cut) for cut in cuts_round(points, spot))
+
+
+def depth_ok(points, spot, thing):
+    if not is_row(thing, 2) or not is_whole(thing[0]) or not is_row_of_wholes(thing[1], len(spot) - 1):
+        return False
+    if all(number == 0 for number in thing[1]):
+        return False
+    return shown(points, spot, thing[1]) == thing[0] == depth_of(points, spot)
+
+
+def partings_of(count, many):
+    """All partings of so many points into so many heaps, in order of their least points, in order."""
+    found = set()
+    for owners in itertools.product(range(many), repeat=count):
+        heaps = [tuple(k for k in range(count) if owners[k] == heap) for heap in range(many)]
+        if all(heaps):
+            found.add(tuple(sorted(heaps)))
+    return sorted(found)
+
+
 def nested(kind, depth):
     """A thing with so many things within one another."""
     thing = 1
@@ -311,6 +357,17 @@ def some_groups(throw, many, count, most=None):
         tuple(sorted(throw.sample(range(many), throw.randint(1, min(many, most or many)))))
         for group in range(count)
     ]
+
+
+def held_colours(throw, size, most, reach=9):
+    """Colours of which each holds nought: one arrow of each goes against the sum of its others."""
+    colours = []
+    for colour in range(size + 1):
+        arrows = some_arrows(throw, size, throw.randint(1, most - 1), reach)
+        arrows.append(tuple(-sum(column) for column in zip(*arrows)))
+        throw.shuffle(arrows)
+        colours.append(arrows)
+    return colours
 
 
 def some_shares(throw, many, most=9):

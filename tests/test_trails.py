@@ -4,7 +4,7 @@ import unittest
 
 from heapsmeet.near import nearest
 from heapsmeet.trails import trail_holds
-from tests.support import HUGE, ask, changed, dice, mix_places, odd_things, trail_ok, twisted
+from tests.support import HUGE, ask, changed, dice, held_colours, mix_places, odd_things, trail_ok, twisted
 
 ONE = [[(1,), (-1,), (3,)], [(2,), (5,), (-3,)]]
 ONE_TRAIL = (((0, 0), ((0, 1),)), ((0, 2), ((0, 3), (1, 1))))
@@ -44,17 +44,6 @@ def walked(colours):
         choice[at] = next(
             k for k, arrow in enumerate(colours[at]) if sum(place * n for place, n in zip(mix, arrow)) <= 0
         )
-
-
-def held_colours(throw, size, most):
-    """Colours of which each holds nought: each has, beside others, an arrow against the sum of its first ones."""
-    colours = []
-    for colour in range(size + 1):
-        arrows = [tuple(throw.randint(-9, 9) for k in range(size)) for j in range(throw.randint(1, most - 1))]
-        arrows.append(tuple(-sum(column) for column in zip(*arrows)))
-        throw.shuffle(arrows)
-        colours.append(arrows)
-    return colours
 
 
 def trails():
