@@ -6,11 +6,14 @@ from heapsmeet.spots import is_spot
 from heapsmeet.wholes import is_row, weighed
 
 
+def is_group_shares(points, group, thing):
+    """Whether something is shares of some of the group's points alone."""
+    return is_shares(len(points), thing) and all(k in group for k, share in thing)
+
+
 def leads_to(points, group, spot, thing):
     """Whether something is shares of some of the group's points that mix them to the spot."""
-    if not is_shares(len(points), thing) or not all(k in group for k, share in thing):
-        return False
-    return mixed(points, thing) == spot
+    return is_group_shares(points, group, thing) and mixed(points, thing) == spot
 
 
 def shared_holds(points, groups, thing):

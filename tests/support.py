@@ -263,6 +263,54 @@ def depth_ok(points, spot, thing):
     return shown(points, spot, thing[1]) == thing[0] == depth_of(points, spot)
 
 
+def depth_by_words(points, spot):
+    """The depth in a plane by the counts of [21]."""
+    middle = places_of(spot)
+    arrows = [[a - b for a, b in zip(places_of(point), middle)] for point in points]
+    z = sum(1 for arrow in arrows if arrow == [0, 0])
+    counts = []
+    for x, y in arrows:
+        if (x, y) != (0, 0):
+            turns = [(x * b - y * a, x * a + y * b) for a, b in arrows]
+            l, r = [sum(1 for turn, along in turns if turn * side > 0) for side in (1, -1)]
+            f, b = [sum(1 for turn, along in turns if turn == 0 and along * side > 0) for side in (1, -1)]
+            counts += [z + l + f, z + l + b, z + r + f, z + r + b]
+    return min(counts, default=z)
+
+
+def group_shares_ok(points, group, thing):
+    return shares_ok(len(points), thing) and {k for k, s in thing} <= set(group)
+
+
+def gap_ok(points, one, other, thing):
+    if not is_row(thing, 2):
+        return False
+    if not group_shares_ok(points, one, thing[0]) or not group_shares_ok(points, other, thing[1]):
+        return False
+    all_places = [places_of(point) for point in points]
+    x, y = [mix_places(all_places, shares) for shares in thing]
+
+    def along(goal, start):
+        return sum((a - b) * (c - d) for a, b, c, d in zip(x, y, goal, start))
+
+    return all(along(all_places[k], x) >= 0 for k in one) and all(along(all_places[k], y) <= 0 for k in other)
+
+
+def gap_of(points, thing):
+    """The square of the distance of a pair of shares' mixes."""
+    all_places = [places_of(point) for point in points]
+    x, y = [mix_places(all_places, shares) for shares in thing]
+    return square_of([a - b for a, b in zip(x, y)])
+
+
+def rainbow_ok(points, colours, spot, thing):
+    if not is_row(thing, 2) or not is_row_of_wholes(thing[0], len(colours)):
+        return False
+    if any(k not in colour for k, colour in zip(thing[0], colours)) or not shares_ok(len(colours), thing[1]):
+        return False
+    return mix_places([places_of(points[k]) for k in thing[0]], thing[1]) == places_of(spot)
+
+
 def partings_of(count, many):
     """All partings of so many points into so many heaps, in order of their least points, in order."""
     found = set()
