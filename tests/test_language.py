@@ -17,7 +17,7 @@ ALLOWED_BUILTINS = set(
 ALLOWED_METHODS = set(
     "append clear copy count endswith extend find get index insert isalnum isalpha isdigit islower isspace isupper "
     "items join keys ljust lower lstrip partition pop remove replace reverse rfind rjust rpartition rsplit rstrip "
-    "setdefault split splitlines startswith strip update upper values zfill bit_length sort add discard isascii".split()
+    "setdefault split splitlines startswith strip update upper values zfill bit_length sort add discard isascii removeprefix".split()
 )
 BARRED_WORDS = (
     r"\b(type|typing|typing_extensions|enum|Enum|IntEnum|StrEnum|Flag|IntFlag|Generic|Protocol|ABC|ABCMeta|namedtuple"
